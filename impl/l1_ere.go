@@ -80,7 +80,7 @@ func RuleOK(r Rule) bool {
 
 // MatchSpan says whether text[a:b) belongs to r in its place.
 func MatchSpan(r Rule, text string, a, b int, closed bool) bool {
-	if len(text) > MaxText || a < 0 || b < a || b > len(text) {
+	if !spanOK(text, a, b) {
 		return false
 	}
 	parts, ok := liftRule(r)
@@ -90,13 +90,25 @@ func MatchSpan(r Rule, text string, a, b int, closed bool) bool {
 	t := newTracks(weightOfAll(parts))
 	whole := t.bare(false)
 	for i, branch := range r.Branches {
-		begins := a == 0 || !branch.Bol
-		ends := closed && b == len(text) || !branch.Eol
-		if begins && ends {
+		if branch.mayBegin(a) && branch.mayEnd(text, b, closed) {
 			whole = t.either(whole, t.write(parts[i]))
 		}
 	}
 	return t.reads(whole, text[a:b])
+}
+
+// spanOK says whether text[a:b) is a span of a text that may be matched.
+func spanOK(text string, a, b int) bool {
+	return len(text) <= MaxText && 0 <= a && a <= b && b <= len(text)
+}
+
+// mayBegin and mayEnd say what the anchors of a branch allow.
+func (b Branch) mayBegin(at int) bool {
+	return at == 0 || !b.Bol
+}
+
+func (b Branch) mayEnd(text string, at int, closed bool) bool {
+	return closed && at == len(text) || !b.Eol
 }
 
 // fault is why a pattern is refused. It travels as an error, so that a reader far down needs no way of its own to
@@ -542,8 +554,9 @@ type part interface {
 	weight() int
 }
 
+// setPart has its marks behind a pointer: however many copies of it are written out, they share them.
 type setPart struct {
-	takes marks
+	takes *marks
 }
 
 type seqPart struct {
@@ -694,7 +707,8 @@ func joinParts(n Node, taken []part) part {
 	case KindGroup:
 		return groupPart{taken[0], n.Group}
 	}
-	return setPart{marksOf(n.Set)}
+	takes := marksOf(n.Set)
+	return setPart{&takes}
 }
 
 // repeated leaves out repeats that change neither the language nor the copies: a hand-made rule may pile thousands of
@@ -793,7 +807,7 @@ func (s posSet) members(yield func(int) bool) {
 // costs the same for every byte, however the repeats are nested.
 type tracks struct {
 	words  int
-	sets   []marks
+	sets   []*marks
 	follow []posSet
 }
 
@@ -836,7 +850,7 @@ func (t *tracks) write(p part) fragment {
 	return t.bare(false)
 }
 
-func (t *tracks) position(takes marks) fragment {
+func (t *tracks) position(takes *marks) fragment {
 	f := t.bare(false)
 	f.first.add(len(t.sets))
 	f.last.add(len(t.sets))
