@@ -93,14 +93,19 @@ func TestBuildEdges(t *testing.T) {
 	}
 }
 
-// Every state leads to some state of its own by each of the many bytes with which a pattern begins; so the rows are far
-// from the usual, and too long together.
-func TestBuildSlots(t *testing.T) {
+// slotPatterns make rows that are too long together: every state leads to some state of its own by each of the many bytes
+// with which a pattern begins, and so the rows are far from the usual.
+func slotPatterns() []string {
 	patterns := []string{}
 	for i := range 90 {
 		first := string([]byte{byte(130 + i)})
 		patterns = append(patterns, first+strings.Repeat(string([]byte{byte(20 + i%3), 129}), 20))
 	}
+	return patterns
+}
+
+func TestBuildSlots(t *testing.T) {
+	patterns := slotPatterns()
 	if b := impl.Build(patterns, impl.MaxStates); !refused(b, impl.BuildSlots, 0, 0, 0) {
 		t.Error(b.Code, len(b.M.Table.Next))
 	}
